@@ -1,0 +1,1 @@
+"""Wearybeams: beams that tire by what they tell, and what their words let be."""

@@ -1,0 +1,11 @@
+"""What kind a thing handed in is, whatever it is."""
+
+
+def is_number(thing, first, last):
+    """Whether it is a whole number from first to last; True and False are none."""
+    return type(thing) is int and first <= thing <= last
+
+
+def is_list(thing):
+    """Whether it may stand where a list is told to be handed in: a tuple may, too."""
+    return type(thing) in (list, tuple)
