@@ -7,7 +7,7 @@ import pathlib
 import unittest
 
 import wearybeams
-from wearybeams import errors, rows, yards
+from wearybeams import errors, levels, nets, rows, sheets, stretches, torn, ways, words, worlds, yards
 
 PACKAGE = pathlib.Path(wearybeams.__file__).resolve().parent
 
@@ -22,8 +22,30 @@ INTERFACE = {
         "is_name": "(thing)"},
     "rows": {"is_weighing": "(yard, thing)", "is_row": "(yard, thing)", "need_log": "(yard, log)",
              "weighings": "(yard)"},
+    "worlds": {"shifts": "(yard, log)", "told_by": "(yard, world, weighings)", "is_world": "(yard, log, thing)"},
+    "ways": {"led": "(yard, log, pan, thing)", "worth_of": "(yard, log, way)", "worth_at": "(worth, leans)",
+             "is_ring": "(yard, log, thing)"},
+    "nets": {
+        "Net": {"__init__": "(self, yard, log)", "yard": "(self)", "log": "(self)", "ring": "(self, leans)",
+                "low": "(self, leans)", "high": "(self, leans)", "far": "(self, one, other, leans)",
+                "way": "(self, one, other, leans)", "leans": "(self)", "worlds": "(self, most)"},
+        "all_leans": "(yard)"},
+    "torn": {"torn": "(net)", "is_tear": "(yard, log, thing)", "first_torn": "(yard, log)", "some_world": "(net)"},
+    "stretches": {
+        "apart": "(net, one, other)", "leaned": "(net, beam)", "leans_now": "(net, beam)",
+        "apart_by": "(net, one, other, number)", "bar": "(net, one, other, first, last)",
+        "is_bar": "(yard, log, one, other, first, last, thing)", "lean_bar": "(net, beam, first, last)",
+        "is_lean_bar": "(yard, log, beam, first, last, thing)"},
+    "sheets": {"sheet": "(net, one, other)", "is_sheet": "(yard, log, one, other, thing)"},
+    "words": {"next_words": "(net, weighing)", "sure": "(net, weighing)", "sure_run": "(net, weighings)",
+              "steered": "(net, beam, shift, *, most=12)"},
+    "levels": {"tied": "(yard, weighings, beam)", "is_tie": "(yard, weighings, beam, thing)",
+               "is_levelling": "(yard, weighings, beam, thing)", "moved": "(yard, world, levelling, times)",
+               "loose": "(yard, weighings)"},
 }
-MODULES = {"errors": errors, "yards": yards, "rows": rows}
+MODULES = {
+    "errors": errors, "yards": yards, "rows": rows, "worlds": worlds, "ways": ways, "nets": nets, "torn": torn,
+    "stretches": stretches, "sheets": sheets, "words": words, "levels": levels}
 
 BUILTINS = (
     "len range enumerate zip min max sum abs sorted reversed int str bool bytes list tuple dict set isinstance ord "
@@ -106,6 +128,27 @@ class Form(unittest.TestCase):
                 self.assertIsInstance(node.ctx, ast.Load, name)
         for name, node in nodes(ast.arg):
             self.assertFalse(hasattr(builtins, node.arg), (name, node.arg))
+
+    def test_names_of_imports_and_classes(self):
+        for path in files():
+            tree = tree_of(path)
+            kept = {alias.name for node in ast.walk(tree) if isinstance(node, ast.ImportFrom) for alias in node.names}
+            kept |= {node.name for node in tree.body if isinstance(node, ast.ClassDef)}
+            bound = {node.arg for node in ast.walk(tree) if isinstance(node, ast.arg)}
+            bound |= {node.id for node in ast.walk(tree)
+                      if isinstance(node, ast.Name) and isinstance(node.ctx, ast.Store)}
+            bound |= {node.name for node in ast.walk(tree) if isinstance(node, ast.FunctionDef)}
+            self.assertEqual(kept & bound, set(), path.name)
+
+    def test_no_rings_of_imports(self):
+        told = {path.stem: {node.module.split(".")[1] for node in ast.walk(tree_of(path))
+                            if isinstance(node, ast.ImportFrom) and node.module.startswith("wearybeams.")}
+                for path in files()}
+        while told:
+            free = [file for file, others in told.items() if not others & set(told)]
+            self.assertNotEqual(free, [], told)
+            for file in free:
+                del told[file]
 
     def test_statements_and_values(self):
         # no generator expressions: any, all and the like want a list where a class has __eq__
