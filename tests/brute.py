@@ -22,6 +22,12 @@ def pairs(yard):
     return [(one, other) for one in pans(yard) for other in pans(yard)]
 
 
+def weighings(yard, only=None):
+    """All weighings, or those by one beam."""
+    return [(beam, left, right) for beam, _ in yard.beams() if only in (None, beam)
+            for left, right in pairs(yard) if left is None or left != right]
+
+
 def leans_of(yard):
     """All tuples of first leans, rising."""
     return list(itertools.product(range(-yard.lean(), yard.lean() + 1), repeat=len(yard.beams())))
@@ -96,6 +102,144 @@ def is_world(yard, log, thing):
     if not all(abs(lean) <= yard.lean() for lean in thing[1].values()):
         return False
     return words(yard, thing, [row[:3] for row in log]) == list(log)
+
+
+def word_at(yard, world, weighing, shift):
+    """The word of a weighing behind rows that moved the leans by so much: shifts by beams."""
+    beam, left, right = weighing
+    return words(yard, (world[0], {**world[1], beam: world[1][beam] + shift[beam]}), [weighing])[0][3]
+
+
+def moved_by(yard, shift, beam, word):
+    """The shifts behind one word more."""
+    return {**shift, beam: shift[beam] + shifts(yard, [(beam, None, None, word)])[beam]}
+
+
+def fewest_parting(yard, one, other, log):
+    """How few weighings, at whatever beams, have unlike words in two worlds behind a log of both; None without any."""
+    row = [shifts(yard, log)]
+    seen, many = [tuple(row[0].values())], 0
+    while row:
+        many, behind = many + 1, []
+        for shift in row:
+            for weighing in weighings(yard):
+                word = word_at(yard, one, weighing, shift)
+                if word != word_at(yard, other, weighing, shift):
+                    return many
+                new = moved_by(yard, shift, weighing[0], word)
+                if tuple(new.values()) not in seen:
+                    seen.append(tuple(new.values()))
+                    behind.append(new)
+        row = behind
+    return None
+
+
+def lots(yard, right):
+    """Some worlds, in lots of worlds that are alike for ever."""
+    told = []
+    for world in right:
+        for lot in told:
+            if fewest_parting(yard, lot[0], world, []) is None:
+                lot.append(world)
+                break
+        else:
+            told.append([world])
+    return told
+
+
+def comes_to(ask, world):
+    if ask[0] == "heavier":
+        more = heavier(world, ask[2], ask[1])
+        return (more > 0) - (more < 0)
+    return world[0][ask[1]] if ask[0] == "weight" else world[1][ask[1]]
+
+
+def asks(yard):
+    """All asks."""
+    return ([("heavier", one, other) for one, other in pairs(yard) if one != other]
+            + [("weight", thing) for thing in yard.things()] + [("lean", beam) for beam, _ in yard.beams()])
+
+
+def by_words(yard, right, weighing, shift):
+    """Some worlds by their word of a weighing, in the order of words."""
+    told = {word: [] for word in WORDS}
+    for world in right:
+        told[word_at(yard, world, weighing, shift)].append(world)
+    return {word: some for word, some in told.items() if some}
+
+
+def can_be_told(yard, right, shift, ask, deep):
+    """Whether some plan, at most so deep, tells the ask in some worlds."""
+    if len({comes_to(ask, world) for world in right}) == 1:
+        return True
+    return deep > 0 and any(
+        all(can_be_told(yard, some, moved_by(yard, shift, weighing[0], word), ask, deep - 1)
+            for word, some in by_words(yard, right, weighing, shift).items())
+        for weighing in weighings(yard))
+
+
+def depth(thing):
+    """How deep a plan is."""
+    return 0 if thing is None else 1 + max(depth(part) for part in thing[1].values())
+
+
+def is_plan(yard, right, shift, ask, thing):
+    """Whether anything is a plan where some worlds are left."""
+    if len({comes_to(ask, world) for world in right}) == 1:
+        return thing is None
+    if type(thing) is not tuple or len(thing) != 2 or thing[0] not in weighings(yard) or type(thing[1]) is not dict:
+        return False
+    parts = by_words(yard, right, thing[0], shift)
+    return list(thing[1]) == list(parts) and all(
+        is_plan(yard, some, moved_by(yard, shift, thing[0][0], word), ask, thing[1][word])
+        for word, some in parts.items())
+
+
+def is_foil(yard, log, ask, most, thing):
+    if most == 0:
+        return (type(thing) is tuple and len(thing) == 2 and all(is_world(yard, log, world) for world in thing)
+                and comes_to(ask, thing[0]) != comes_to(ask, thing[1]))
+    if type(thing) is not dict or list(thing) != weighings(yard):
+        return False
+    return all(type(part) is tuple and len(part) == 2 and part[0] in WORDS
+               and is_foil(yard, [*log, (*weighing, part[0])], ask, most - 1, part[1])
+               for weighing, part in thing.items())
+
+
+def sums(yard, weighing):
+    """Left pan less right pan and the beam weighed at: a dict from things and beams to numbers."""
+    beam, left, right = weighing
+    told = {**{("thing", thing): 0 for thing in yard.things()}, **{("beam", name): 0 for name, _ in yard.beams()}}
+    for pan, number in [(left, 1), (right, -1)]:
+        if pan is not None:
+            told["thing", pan] += number
+    told["beam", beam] += 1
+    return told
+
+
+def is_tie(yard, weighings, beam, thing):
+    if type(thing) is not tuple or [type(part) for part in thing] != [dict, int] or thing[1] < 1:
+        return False
+    numbers = [*thing[0], *thing[0].values()]
+    if {type(number) for number in numbers} - {int} or 0 in thing[0].values():
+        return False
+    if list(thing[0]) != sorted(thing[0]) or not all(0 <= at < len(weighings) for at in thing[0]):
+        return False
+    total = {key: sum(sums(yard, weighings[at])[key] * many for at, many in thing[0].items())
+             for key in sums(yard, (beam, None, None))}
+    return total == {key: thing[1] * often for key, often in sums(yard, (beam, None, None)).items()}
+
+
+def is_levelling(yard, weighings, beam, thing):
+    if type(thing) is not tuple or [type(part) for part in thing] != [dict, dict]:
+        return False
+    if [list(part) for part in thing] != [yard.things(), [name for name, _ in yard.beams()]]:
+        return False
+    if {type(number) for part in thing for number in part.values()} != {int} or thing[1][beam] == 0:
+        return False
+    numbers = {**{("thing", name): number for name, number in thing[0].items()},
+               **{("beam", name): number for name, number in thing[1].items()}}
+    return all(sum(numbers[key] * often for key, often in sums(yard, weighing).items()) == 0 for weighing in weighings)
 
 
 def steps(yard, log):
@@ -238,3 +382,55 @@ class Walker:
                 return False
             reached.update(range(low, high + 1))
         return reached == set(range(pair[0], pair[1] + 1))
+
+
+def is_row(yard, thing):
+    return type(thing) is tuple and thing in [(*weighing, word) for weighing in weighings(yard) for word in WORDS]
+
+
+def is_answer(yard, log, question, answer):
+    """Whether anything is a question with an answer that is so."""
+    if type(question) is not tuple or not question or type(question[0]) is not str:
+        return False
+    kind, *parts = question
+    if kind == "apart" and len(parts) == 2 and all(pan in pans(yard) for pan in parts):
+        return Walker(yard, log).is_sheet(*parts, answer)
+    if kind == "next" and len(parts) == 1 and type(parts[0]) is tuple and parts[0] in weighings(yard):
+        if type(answer) is not dict or list(answer) != list(WORDS):
+            return False
+        return all(is_word_told(yard, [*log, (*parts[0], word)], answer[word]) for word in WORDS)
+    if kind == "tied" and len(parts) == 2 and type(parts[0]) is tuple and parts[1] in things_and_beams(yard)[1]:
+        if not all(type(weighing) is tuple and weighing in weighings(yard) for weighing in parts[0]):
+            return False
+        if type(answer) is not tuple or len(answer) not in (2, 3):
+            return False
+        if len(answer) == 3:
+            return answer[0] == "tie" and is_tie(yard, *parts, answer[1:])
+        return answer[0] == "level" and is_levelling(yard, *parts, answer[1])
+    return False
+
+
+def is_word_told(yard, behind, thing):
+    """Whether anything shows that a log can be, or that it is torn."""
+    if type(thing) is not tuple or len(thing) != 2:
+        return False
+    kind, shown = thing
+    return kind == "can" and is_world(yard, behind, shown) or kind == "not" and Walker(yard, behind).is_tear(shown)
+
+
+def judged(yard, record):
+    """The number of the first entry of anything as a record that isn't so; None without."""
+    if type(record) not in (list, tuple):
+        return 0
+    log = []
+    for at, entry in enumerate(record):
+        if type(entry) is not tuple or not entry or type(entry[0]) is not str:
+            return at
+        kind, *parts = entry
+        if kind == "row" and len(parts) == 2 and is_row(yard, parts[0]) and is_world(yard, [*log, parts[0]], parts[1]):
+            log.append(parts[0])
+        elif kind == "undo" and not parts and log:
+            log.pop()
+        elif kind != "asked" or len(parts) != 2 or not is_answer(yard, log, *parts):
+            return at
+    return None

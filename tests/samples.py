@@ -3,6 +3,7 @@
 import random
 
 import brute
+from wearybeams.errors import Torn
 from wearybeams.yards import Yard
 
 
@@ -64,6 +65,32 @@ def tiny_yards():
         Yard(["a", "b"], [("x", 5), ("a", -3)], most=3, lean=2),
         Yard(["a", "b", "c"], [("x", 1), ("y", 2)], most=3, lean=0),
     ]
+
+
+def rising_yards():
+    """Yards of steps above 0 alone, of so few worlds that a test can go through all pairs of them."""
+    return [
+        Yard(["a"], [("x", 1)], most=3, lean=1),
+        Yard(["a"], [("x", 3)], most=7, lean=2),
+        Yard(["a", "b"], [("x", 2)], most=4, lean=1),
+        Yard(["a", "b"], [("x", 2), ("a", 3)], most=3, lean=1),
+        Yard(["b", "a"], [("y", 5), ("x", 4)], most=3, lean=1),
+        Yard(["a", "b", "c"], [("x", 5)], most=3, lean=1),
+        Yard(["a"], [("x", 2), ("y", 3), ("z", 5)], most=2, lean=1),
+        Yard(["a"], [("x", 5)], most=2, lean=9),
+    ]
+
+
+def rising_logs(seed, many):
+    """Pairs of such a yard and a log that some world gives."""
+    chance = random.Random(seed)
+    return [(yard, some_log(yard, chance, chance.choice([0, 1, 2, 3, 5, 9, 20])))
+            for yard in rising_yards() for _ in range(many)]
+
+
+def falling_yard():
+    """The steps of the second and the third beam are below 0."""
+    return Yard(["a", "b"], [("x", 2), ("y", -1), ("z", -3)], most=4, lean=1)
 
 
 def great_yard(chance):
@@ -130,3 +157,52 @@ def otherwise(thing):
     told += [thing[:at] + thing[at + 1:] for at in range(len(thing))]
     told += [thing[:at] + (thing[at], thing[at]) + thing[at + 1:] for at in range(len(thing))]
     return told + [(*thing[:at], other, *thing[at + 1:]) for at in range(len(thing)) for other in otherwise(thing[at])]
+
+
+def some_question(yard, chance):
+    """A question of a house."""
+    kind = chance.choice(["apart", "next", "tied"])
+    if kind == "apart":
+        return (kind, *chance.choice(brute.pairs(yard)))
+    if kind == "next":
+        return (kind, some_weighing(yard, chance))
+    weighings = tuple(some_weighing(yard, chance) for _ in range(chance.choice([0, 1, 3, 6])))
+    return (kind, weighings, chance.choice(yard.beams())[0])
+
+
+def lived_in(house, yard, chance, many):
+    """Does so many things with a house: rows, right and torn ones, undoing, questions."""
+    for _ in range(many):
+        deed = chance.choice(["tell", "tell", "tell", "undo", "ask", "ask"])
+        if deed == "undo":
+            house.undo()
+        elif deed == "ask":
+            house.ask(some_question(yard, chance))
+        else:
+            try:
+                house.tell(*some_weighing(yard, chance), chance.choice(brute.WORDS))
+            except Torn:
+                pass
+    return house
+
+
+def slips_of(log):
+    """The slips of a log, each beam's rows numbered from 1."""
+    told, many = [], {}
+    for beam, left, right, word in log:
+        many[beam] = many.get(beam, 0) + 1
+        told.append((beam, many[beam], left, right, word))
+    return told
+
+
+class Beams:
+    """Beams of a world behind a log: called, they weigh."""
+
+    def __init__(self, yard, world, log=()):
+        self.yard, self.world, self.log = yard, world, list(log)
+        self.came = []
+
+    def __call__(self, beam, left, right):
+        weighings = [*[row[:3] for row in self.log + self.came], (beam, left, right)]
+        self.came.append(brute.words(self.yard, self.world, weighings)[-1])
+        return self.came[-1][3]

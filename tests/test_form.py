@@ -7,7 +7,9 @@ import pathlib
 import unittest
 
 import wearybeams
-from wearybeams import errors, levels, nets, rows, sheets, stretches, torn, ways, words, worlds, yards
+from wearybeams import (
+    asking, books, desk, errors, house, judge, levels, nets, parting, plans, rows, sheets, stretches, texts, torn, ways,
+    words, worlds, yards)
 
 PACKAGE = pathlib.Path(wearybeams.__file__).resolve().parent
 
@@ -42,10 +44,22 @@ INTERFACE = {
     "levels": {"tied": "(yard, weighings, beam)", "is_tie": "(yard, weighings, beam, thing)",
                "is_levelling": "(yard, weighings, beam, thing)", "moved": "(yard, world, levelling, times)",
                "loose": "(yard, weighings)"},
+    "parting": {"rests": "(yard, world, weighing)", "rested": "(yard, world, weighings)",
+                "alike": "(yard, one, other)", "parting": "(yard, one, other, *, log=())", "classes": "(net)"},
+    "asking": {"Asker": {"__init__": "(self, net)", "sound": "(self, weigh)", "rows": "(self)", "net": "(self)"}},
+    "plans": {"plan": "(net, ask, most)", "is_plan": "(net, ask, thing)", "is_foil": "(net, ask, most, thing)"},
+    "books": {"Book": {"__init__": "(self, yard)", "hear": "(self, slip)", "log": "(self)", "waits": "(self)",
+                       "lacks": "(self)", "net": "(self)", "__len__": "(self)"}},
+    "house": {"House": {"__init__": "(self, yard)", "tell": "(self, beam, left, right, word)", "undo": "(self)",
+                        "ask": "(self, question)", "log": "(self)", "record": "(self)"}},
+    "judge": {"judged": "(yard, record)", "again": "(yard, record)"},
+    "texts": {"yard_text": "(yard)", "read_yard": "(text)", "log_text": "(log)", "read_log": "(yard, text)"},
+    "desk": {"Desk": {"__init__": "(self, yard)", "say": "(self, row)"}, "answers": "(yard, text)"},
 }
 MODULES = {
     "errors": errors, "yards": yards, "rows": rows, "worlds": worlds, "ways": ways, "nets": nets, "torn": torn,
-    "stretches": stretches, "sheets": sheets, "words": words, "levels": levels}
+    "stretches": stretches, "sheets": sheets, "words": words, "levels": levels, "parting": parting, "asking": asking,
+    "plans": plans, "books": books, "house": house, "judge": judge, "texts": texts, "desk": desk}
 
 BUILTINS = (
     "len range enumerate zip min max sum abs sorted reversed int str bool bytes list tuple dict set isinstance ord "

@@ -23,42 +23,6 @@ THREE = [("x", "a", "b"), ("x", "b", "c"), ("y", "a", "c")]
 FOUR = [*THREE, ("x", "c", "a")]
 
 
-def sums(one, weighing):
-    """Left pan less right pan and the beam weighed at: a dict from things and beams to numbers."""
-    beam, left, right = weighing
-    told = {**{("thing", thing): 0 for thing in one.things()}, **{("beam", name): 0 for name, _ in one.beams()}}
-    for pan, number in [(left, 1), (right, -1)]:
-        if pan is not None:
-            told["thing", pan] += number
-    told["beam", beam] += 1
-    return told
-
-
-def is_tie_here(one, weighings, beam, thing):
-    if type(thing) is not tuple or [type(part) for part in thing] != [dict, int] or thing[1] < 1:
-        return False
-    numbers = [*thing[0], *thing[0].values()]
-    if {type(number) for number in numbers} - {int} or 0 in thing[0].values():
-        return False
-    if list(thing[0]) != sorted(thing[0]) or not all(0 <= at < len(weighings) for at in thing[0]):
-        return False
-    total = {key: sum(sums(one, weighings[at])[key] * many for at, many in thing[0].items())
-             for key in sums(one, (beam, None, None))}
-    return total == {key: thing[1] * often for key, often in sums(one, (beam, None, None)).items()}
-
-
-def is_levelling_here(one, weighings, beam, thing):
-    if type(thing) is not tuple or [type(part) for part in thing] != [dict, dict]:
-        return False
-    if [list(part) for part in thing] != [one.things(), [name for name, _ in one.beams()]]:
-        return False
-    if {type(number) for part in thing for number in part.values()} != {int} or thing[1][beam] == 0:
-        return False
-    numbers = {**{("thing", name): number for name, number in thing[0].items()},
-               **{("beam", name): number for name, number in thing[1].items()}}
-    return all(sum(numbers[key] * often for key, often in sums(one, weighing).items()) == 0 for weighing in weighings)
-
-
 def rank(rows):
     """How many of some rows there are at most none of which is made of the others by fractions."""
     rows, told = [[Fraction(number) for number in row] for row in rows], 0
@@ -86,19 +50,19 @@ class Tied(unittest.TestCase):
     def test_a_tie_or_a_levelling(self):
         seen = []
         for one, weighings in some_lists(70, 12):
-            rows = [list(sums(one, weighing).values()) for weighing in weighings]
+            rows = [list(brute.sums(one, weighing).values()) for weighing in weighings]
             for beam, _ in one.beams():
                 told = tied(one, weighings, beam)
-                alone = list(sums(one, (beam, None, None)).values())
+                alone = list(brute.sums(one, (beam, None, None)).values())
                 can = rank([*rows, alone]) == rank(rows)
                 self.assertEqual(told[0], "tie" if can else "level")
                 if can:
                     self.assertEqual(len(told), 3)
-                    self.assertTrue(is_tie_here(one, weighings, beam, told[1:]))
+                    self.assertTrue(brute.is_tie(one, weighings, beam, told[1:]))
                     self.assertIs(is_tie(one, weighings, beam, told[1:]), True)
                 else:
                     self.assertEqual(len(told), 2)
-                    self.assertTrue(is_levelling_here(one, weighings, beam, told[1]))
+                    self.assertTrue(brute.is_levelling(one, weighings, beam, told[1]))
                     self.assertIs(is_levelling(one, weighings, beam, told[1]), True)
                 self.assertIs(type(told), tuple)
                 parts = [told[1], {None: told[2]}] if can else told[1]
@@ -185,7 +149,7 @@ class IsTie(unittest.TestCase):
                     more = (told[1] | {len(weighings) - 1: 1}, told[2])
                     things = [*otherwise(told[1:]), more, (told[1], -told[2]), (told[1], 2 * told[2])]
                     for thing in chance.sample(things, min(30, len(things))):
-                        self.assertIs(is_tie(one, weighings, beam, thing), is_tie_here(one, weighings, beam, thing))
+                        self.assertIs(is_tie(one, weighings, beam, thing), brute.is_tie(one, weighings, beam, thing))
 
     def test_of_anything(self):
         for thing in anything():
@@ -246,7 +210,7 @@ class IsLevelling(unittest.TestCase):
                     things = otherwise(told[1])
                     for thing in chance.sample(things, min(30, len(things))):
                         self.assertIs(is_levelling(one, weighings, beam, thing),
-                                      is_levelling_here(one, weighings, beam, thing))
+                                      brute.is_levelling(one, weighings, beam, thing))
 
     def test_of_anything(self):
         things, beams = self.right()
@@ -306,7 +270,7 @@ class Moved(unittest.TestCase):
 class Loose(unittest.TestCase):
     def test_by_elimination(self):
         for one, weighings in some_lists(80, 12):
-            rows = [list(sums(one, weighing).values()) for weighing in weighings]
+            rows = [list(brute.sums(one, weighing).values()) for weighing in weighings]
             wanted = len(one.things()) + len(one.beams()) - rank(rows)
             self.assertEqual(loose(one, weighings), wanted)
             self.assertEqual(loose(yard=one, weighings=tuple(weighings)), wanted)

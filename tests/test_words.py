@@ -13,11 +13,6 @@ from wearybeams.words import FEW, next_words, steered, sure, sure_run
 from wearybeams.yards import Yard
 
 
-def weighings_of(one, only=None):
-    return [(beam, left, right) for beam, _ in one.beams() for left, right in brute.pairs(one)
-            if (left is None or left != right) and only in (None, beam)]
-
-
 def words_of(one, log, right, weighing):
     """The words of a weighing in the worlds of a log."""
     return {brute.words(one, world, [*[row[:3] for row in log], weighing])[-1][3] for world in right}
@@ -52,7 +47,7 @@ class NextWords(unittest.TestCase):
         chance = random.Random(80)
         for one, log, right in sure_logs(81, 3):
             net = Net(one, log)
-            for weighing in chance.sample(weighings_of(one), 3):
+            for weighing in chance.sample(brute.weighings(one), 3):
                 told = next_words(net, weighing)
                 self.check(one, log, weighing, told)
                 self.assertEqual({word for word, (kind, _) in told.items() if kind == "can"},
@@ -105,7 +100,7 @@ class Sure(unittest.TestCase):
         seen = set()
         for one, log, right in sure_logs(85, 6):
             net = Net(one, log)
-            for weighing in weighings_of(one):
+            for weighing in brute.weighings(one):
                 words = words_of(one, log, right, weighing)
                 wanted = words.pop() if len(words) == 1 else None
                 self.assertEqual(sure(net, weighing), wanted)
@@ -115,7 +110,7 @@ class Sure(unittest.TestCase):
     def test_a_sure_word_leaves_all_worlds(self):
         for one, log, right in sure_logs(86, 2):
             net = Net(one, log)
-            for weighing in weighings_of(one):
+            for weighing in brute.weighings(one):
                 word = sure(net=net, weighing=weighing)
                 if word is not None:
                     self.assertEqual(brute.worlds(one, [*log, (*weighing, word)]), right)
@@ -154,9 +149,9 @@ class SureRun(unittest.TestCase):
         seen = set()
         for one, log, right in sure_logs(90, 6):
             net = Net(one, log)
-            certain = [weighing for weighing in weighings_of(one) if len(words_of(one, log, right, weighing)) == 1]
+            certain = [weighing for weighing in brute.weighings(one) if len(words_of(one, log, right, weighing)) == 1]
             for _ in range(6):
-                lot = chance.choice([weighings_of(one), certain or weighings_of(one)])
+                lot = chance.choice([brute.weighings(one), certain or brute.weighings(one)])
                 weighings = [chance.choice(lot) for _ in range(chance.randint(0, 12))]
                 wanted = self.many(one, log, right, weighings)
                 self.assertEqual(sure_run(net, weighings), wanted)
@@ -183,7 +178,7 @@ class Steered(unittest.TestCase):
         rows = {brute.shifts(one, log)[beam]: list(log)}
         for many in range(1, 46):
             for shift in [shift for shift, number in told.items() if number == many - 1]:
-                for weighing in weighings_of(one, beam):
+                for weighing in brute.weighings(one, beam):
                     words = words_of(one, rows[shift], right, weighing)
                     if len(words) == 1:
                         behind = [*rows[shift], (*weighing, words.pop())]
@@ -320,7 +315,7 @@ class NeverBoth(unittest.TestCase):
     def test_no_word_is_told_both_to_come_and_not(self):
         for one, log, _ in sure_logs(93, 1):
             net = Net(one, log)
-            for weighing in weighings_of(one)[:5]:
+            for weighing in brute.weighings(one)[:5]:
                 for word, (kind, _) in next_words(net, weighing).items():
                     behind = [*log, (*weighing, word)]
                     self.assertIs(kind == "can", len(brute.worlds(one, behind)) > 0)

@@ -3,7 +3,7 @@
 from wearybeams.kinds import is_tuple
 from wearybeams.rows import need_log, need_pans
 from wearybeams.stretches import apart, bar, is_bar, joined, pinned, span_of
-from wearybeams.worlds import is_world
+from wearybeams.worlds import heavier, is_world
 
 
 def _gaps(stretches):
@@ -55,25 +55,18 @@ def _are_stretches(thing):
     return all([ahead[1] + 1 < behind[0] for ahead, behind in zip(thing, thing[1:])])
 
 
-def _heavier(world, one, other):
-    """By how much other is heavier than one in a world."""
-    weights, _ = world
-    weighs = {None: 0, **weights}
-    return weighs[other] - weighs[one]
-
-
 def _is_span(yard, log, one, other, thing):
     if not is_tuple(thing, 2) or not all([is_world(yard, log, world) for world in thing]):
         return False
     low, high = thing
-    return low[1] == high[1] and _heavier(low, one, other) <= _heavier(high, one, other)
+    return low[1] == high[1] and heavier(low, one, other) <= heavier(high, one, other)
 
 
 def _is_spanned(yard, log, one, other, stretch, thing):
     """Whether it is a tuple of spans that come to all numbers of the stretch, and to no others."""
     if type(thing) is not tuple or not all([_is_span(yard, log, one, other, span) for span in thing]):
         return False
-    return joined([(_heavier(low, one, other), _heavier(high, one, other)) for low, high in thing]) == [stretch]
+    return joined([(heavier(low, one, other), heavier(high, one, other)) for low, high in thing]) == [stretch]
 
 
 def is_sheet(yard, log, one, other, thing):

@@ -29,11 +29,28 @@ def word_of(total):
     return "even" if total == 0 else "right"
 
 
+def in_pans(world):
+    """From nothing and from each thing to its weight."""
+    weights, _ = world
+    return {None: 0, **weights}
+
+
+def heavier(world, one, other):
+    """By how much other, in a pan, is heavier than one."""
+    weighs = in_pans(world)
+    return weighs[other] - weighs[one]
+
+
+def first_sums(world, listed):
+    """To what each of some weighings comes by the first leans."""
+    weighs, leans = in_pans(world), world[1]
+    return [weighs[left] - weighs[right] + leans[beam] for beam, left, right in listed]
+
+
 def _words(yard, world, listed):
     """The log of weighings of the yard in a world of it."""
-    weights, leans = world
-    weighs = {None: 0, **weights}
-    now = dict(leans)
+    weighs = in_pans(world)
+    now = dict(world[1])
     log = []
     for beam, left, right in listed:
         word = word_of(weighs[left] - weighs[right] + now[beam])
