@@ -41,7 +41,8 @@ class Asker:
         shift = shifts(yard, net.log())
         came = len(self._rows)
         while len(left) > 1:
-            # as long as both of these two are left, they are so anew, and what parts them is the rest of their parting
+            # while both of these two are left they stay the first and the last, and what parts them behind the word
+            # is the rest of their parting: so it is asked to its end, or until one of them is left no more
             weighing = parted(yard, left[0], left[-1], shift)[0]
             left = self._asked(weigh, weighing, left, shift)
         return self._rows[came:]
