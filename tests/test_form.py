@@ -66,6 +66,11 @@ BUILTINS = (
     "repr any all divmod pow type map iter next super Exception ValueError TypeError KeyError IndexError LookupError "
     "ZeroDivisionError NotImplemented StopIteration property staticmethod classmethod").split()
 
+# what is put into dicts whole, by dict(..) or a star: all of their keys are names (and None), none are tuples
+OF_NAMES = [
+    "zip(self._yard.things(), weights[1:])", "zip(names_of(self._yard), leans)", "zip(names_of(net.yard()), leans)",
+    "weights", "leans", "world[1]", "things", "shift"]
+
 
 def files():
     return sorted(PACKAGE.glob("*.py"))
@@ -163,6 +168,19 @@ class Form(unittest.TestCase):
             self.assertNotEqual(free, [], told)
             for file in free:
                 del told[file]
+
+    def test_dicts_with_tuples_as_keys_are_copied_by_loops(self):
+        for name, node in nodes(ast.Attribute):
+            self.assertNotIn(node.attr, ["update", "copy"], name)
+        for name, node in nodes((ast.BinOp, ast.AugAssign)):
+            self.assertNotIsInstance(node.op, ast.BitOr, name)
+        for name, node in nodes(ast.Call):
+            if isinstance(node.func, ast.Name) and node.func.id == "dict":
+                self.assertEqual(node.keywords, [], name)
+                self.assertIn(", ".join([ast.unparse(one) for one in node.args]), OF_NAMES, name)
+        for name, node in nodes(ast.Dict):
+            for key, one in zip(node.keys, node.values):
+                self.assertTrue(key is not None or ast.unparse(one) in OF_NAMES, name)
 
     def test_statements_and_values(self):
         # no generator expressions: any, all and the like want a list where a class has __eq__

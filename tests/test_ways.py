@@ -6,7 +6,7 @@ import unittest
 import brute
 from samples import anything, otherwise, tiny_logs
 from wearybeams.errors import NoPan, NoRow
-from wearybeams.ways import is_ring, led, worth_at, worth_of
+from wearybeams.ways import is_ring, led, steps_of, worth_at, worth_of
 from wearybeams.yards import Yard
 
 # shifts ahead: x 0, x -2, x -2, y 0, x 0, y -3
@@ -50,6 +50,12 @@ class Steps(unittest.TestCase):
         self.step(None, ("most", "b"), "b", (9, (0, 0)))
         self.step("a", ("least", "a"), None, (-1, (0, 0)))
         self.step("b", ("least", "b"), None, (-1, (0, 0)))
+
+    def test_in_order(self):
+        # of steps that are worth the same a net tells the first, so their order stays
+        self.assertEqual(list(steps_of(yard(), LOG)), [
+            (0, "least"), (1, "least"), (1, "most"), (2, "most"), (3, "most"), (4, "least"), (5, "least"), (5, "most"),
+            ("most", "a"), ("least", "a"), ("most", "b"), ("least", "b")])
 
     def test_there_are_no_others(self):
         there = [(0, "least"), (1, "least"), (1, "most"), (2, "most"), (3, "most"), (4, "least"), (5, "least"),

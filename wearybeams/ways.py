@@ -30,7 +30,9 @@ def steps_of(yard, log):
     steps = {}
     for at, row in enumerate(log):
         beam, word = row[0], row[3]
-        steps.update(_row_steps(at, row, names.index(beam), len(names), shift[beam]))
+        row_steps = _row_steps(at, row, names.index(beam), len(names), shift[beam])
+        for step, told in row_steps.items():
+            steps[step] = told
         shift[beam] += turn(yard, beam, word)
     never = (0,) * len(names)
     for thing in yard.things():
